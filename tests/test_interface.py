@@ -1,0 +1,66 @@
+"""The names, arguments and methods that the interface lists, each in its own file and class (points 2 and 3 too)."""
+
+import importlib
+import inspect
+import unittest
+
+# For each module: its functions with their arguments, and its classes with their methods.
+FUNCTIONS = {
+    "words": {"is_name": "text", "check_name": "text", "check_number": "what, value, low, high",
+              "read_number": "text"},
+}
+CLASSES = {
+    "ground": {
+        "Plot": {"__init__": "self, name, hold, drink", "__eq__": None},
+        "Gates": {"__init__": "self, *groups", "__contains__": None, "__le__": None, "__eq__": None, "__or__": None,
+                  "__and__": None, "__len__": None},
+        "Ground": {"__init__": "self, plots, gates, tank", "__eq__": None, "resize": "self, size",
+                   "with_tank": "self, size", "with_gates": "self, gates", "turns": "self",
+                   "turn_of": "self, names", "place_of": "self, name"},
+    },
+}
+PROPERTIES = [("ground", "Ground", "capacity", True)]
+STATIC = []
+
+
+def module_of(name):
+    return importlib.import_module(f"waterbyturns.{name}")
+
+
+def arguments(function):
+    return str(inspect.signature(function)).strip("()")
+
+
+class InterfaceTest(unittest.TestCase):
+    def test_functions(self):
+        for module, functions in FUNCTIONS.items():
+            for name, expected in functions.items():
+                function = getattr(module_of(module), name)
+                self.assertEqual(function.__module__, f"waterbyturns.{module}")
+                self.assertEqual(arguments(function), expected, name)
+
+    def test_classes_define_their_methods_themselves(self):
+        for module, classes in CLASSES.items():
+            for name, methods in classes.items():
+                body = vars(getattr(module_of(module), name))
+                self.assertEqual(body["__module__"], f"waterbyturns.{module}")
+                for method, expected in methods.items():
+                    self.assertIn(method, body, name)
+                    if expected is not None:
+                        self.assertEqual(arguments(body[method]), expected, f"{name}.{method}")
+
+    def test_properties(self):
+        for module, name, held, has_setter in PROPERTIES:
+            found = vars(getattr(module_of(module), name))[held]
+            self.assertIsInstance(found, property)
+            self.assertEqual(found.fset is not None, has_setter, held)
+
+    def test_static_methods(self):
+        for module, name, method, expected in STATIC:
+            found = vars(getattr(module_of(module), name))[method]
+            self.assertIsInstance(found, staticmethod)
+            self.assertEqual(arguments(found.__func__), expected, method)
+
+
+if __name__ == "__main__":
+    unittest.main()

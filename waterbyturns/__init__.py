@@ -1,0 +1,1 @@
+"""Waterbyturns: keeping plots watered by turns whatever the weather does."""

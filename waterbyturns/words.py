@@ -1,0 +1,55 @@
+"""Names and numbers, and the limits that several modules share."""
+
+from waterbyturns.errors import BadName, BadNumber
+
+MOST_PLOTS = 4
+MOST_UNITS = 8
+MOST_MOODS = 4
+
+_LONGEST_NAME = 8
+_LONGEST_NUMBER = 4
+_DIGITS = "0123456789"
+
+
+def is_name(text):
+    """Whether the value is a string of 1 to 8 letters from a to z."""
+    if not isinstance(text, str) or not 1 <= len(text) <= _LONGEST_NAME:
+        return False
+    return all(["a" <= letter <= "z" for letter in text])
+
+
+def check_name(text):
+    """The text itself; BadName if it is no name."""
+    if not is_name(text):
+        raise BadName(text)
+    return text
+
+
+def check_number(what, value, low, high):
+    """The value itself; BadNumber if it is no integer from low to high."""
+    # True and False are integers for Python, but never here.
+    if isinstance(value, bool) or not isinstance(value, int):
+        raise BadNumber(what, value)
+    if value < low or value > high:
+        raise BadNumber(what, value)
+    return value
+
+
+def check_units(what, values):
+    """The values as a tuple; BadNumber for the first that is no integer from 0 to 8."""
+    return tuple([check_number(what, value, 0, MOST_UNITS) for value in values])
+
+
+def read_number(text):
+    """The number that the text writes with one to four digits, without a leading zero."""
+    if not _is_number(text):
+        raise BadNumber("number", text)
+    return int(text)
+
+
+def _is_number(text):
+    if not isinstance(text, str) or not 1 <= len(text) <= _LONGEST_NUMBER:
+        return False
+    if not all([letter in _DIGITS for letter in text]):
+        return False
+    return text == "0" or text[0] != "0"
