@@ -8,6 +8,7 @@ import unittest
 FUNCTIONS = {
     "words": {"is_name": "text", "check_name": "text", "check_number": "what, value, low, high",
               "read_number": "text"},
+    "rounds": {"ranks": "game", "good_options": "game, found, node", "spoilers": "game, found, node"},
 }
 CLASSES = {
     "ground": {
@@ -18,9 +19,25 @@ CLASSES = {
                    "with_tank": "self, size", "with_gates": "self, gates", "turns": "self",
                    "turn_of": "self, names", "place_of": "self, name"},
     },
+    "weather": {
+        "Day": {"__init__": "self, dry, rain, fill, mood", "__eq__": None, "__le__": None, "__add__": None},
+        "Weather": {"__init__": "self, *moods", "__eq__": None, "__len__": None, "__getitem__": None,
+                    "__add__": None, "__radd__": None, "lean": "self"},
+    },
+    "field": {
+        "Standing": {"__init__": "self, levels, tank, mood", "__eq__": None, "__le__": None, "__str__": None},
+        "Field": {"__init__": "self, ground, weather", "__eq__": None, "fits": "self, standing",
+                  "number": "self, standing", "standing_at": "self, number", "watered": "self, standing, turn",
+                  "after": "self, standing, turn, day", "spill": "self, standing, turn, day",
+                  "moves": "self, standing, turn", "run": "self, standing, turns, days", "standings": "self"},
+    },
+    "upsets": {
+        "UpSet": {"__init__": "self, standings", "__contains__": None, "__le__": None, "__eq__": None,
+                  "__or__": None, "__and__": None, "__len__": None, "count_in": "self, field"},
+    },
 }
-PROPERTIES = [("ground", "Ground", "capacity", True)]
-STATIC = []
+PROPERTIES = [("ground", "Ground", "capacity", True), ("field", "Field", "size", False)]
+STATIC = [("weather", "Weather", "steady", "dry, rain, fill"), ("weather", "Weather", "seasons", "*rows")]
 
 
 def module_of(name):

@@ -40,6 +40,16 @@ def check_units(what, values):
     return tuple([check_number(what, value, 0, MOST_UNITS) for value in values])
 
 
+def lesser(one, two):
+    """The lesser of two numbers."""
+    return one if one < two else two
+
+
+def greater(one, two):
+    """The greater of two numbers."""
+    return one if one > two else two
+
+
 def read_number(text):
     """The number that the text writes with one to four digits, without a leading zero."""
     if not _is_number(text):
