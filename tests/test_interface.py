@@ -9,7 +9,10 @@ FUNCTIONS = {
     "words": {"is_name": "text", "check_name": "text", "check_number": "what, value, low, high",
               "read_number": "text"},
     "rounds": {"ranks": "game", "good_options": "game, found, node", "spoilers": "game, found, node"},
+    "papers": {"safe_paper": "safe", "check_safe": "field, rows", "lost_paper": "safe", "check_lost": "field, rows",
+               "covers": "field, safe_rows, lost_rows"},
 }
+BOOK = {"__call__": "self, field, standing, day=0", "check": "self, field", "__str__": "self"}
 CLASSES = {
     "ground": {
         "Plot": {"__init__": "self, name, hold, drink", "__eq__": None},
@@ -34,6 +37,18 @@ CLASSES = {
     "upsets": {
         "UpSet": {"__init__": "self, standings", "__contains__": None, "__le__": None, "__eq__": None,
                   "__or__": None, "__and__": None, "__len__": None, "count_in": "self, field"},
+    },
+    "safe": {
+        "Safe": {"__init__": "self, field", "keeps": "self, standing", "turns": "self, standing",
+                 "first_turn": "self, standing", "rank": "self, standing", "longest": "self"},
+    },
+    "books": {
+        "Book": {"__or__": None, "__eq__": None},
+        "DaysBook": {"__init__": "self, *turns", **BOOK},
+        "DriestBook": {"__init__": "self, *order", **BOOK},
+        "AskingBook": {"__init__": "self, *rows", **BOOK},
+        "RankBook": {"__init__": "self, *order", **BOOK},
+        "ElseBook": {"__init__": "self, first, second", **BOOK},
     },
 }
 PROPERTIES = [("ground", "Ground", "capacity", True), ("field", "Field", "size", False)]

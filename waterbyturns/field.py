@@ -83,13 +83,7 @@ class Field:
         """The standing after the water alone."""
         self._check_fits(standing)
         names = self.ground.turn_of(turn)
-        left = standing.tank
-        levels = []
-        for plot, level in zip(self.ground.plots, standing.levels):
-            units = lesser(lesser(plot.drink, plot.hold - level), left) if plot.name in names else 0
-            levels.append(level + units)
-            left -= units
-        return Standing(levels, left, standing.mood)
+        return _standing_of(_served(self.ground.plots, names, _parts(standing)), standing.mood)
 
     def after(self, standing, turn, day):
         """The standing after the whole day."""
@@ -97,15 +91,15 @@ class Field:
 
     def spill(self, standing, turn, day):
         """The number of units that are spilled on the day."""
-        wet = self.watered(standing, turn)
-        amounts = _amounts(wet, self._checked_day(wet, day, 0))
+        parts, chosen = self._checked_day(standing, turn, day, 0)
+        amounts = _amounts(parts, chosen)
         return sum(amounts) - sum(self._kept(amounts))
 
     def moves(self, standing, turn):
         """For each day of the mood the standing after it, or None if it dries out a plot."""
-        wet = self.watered(standing, turn)
-        return [self._settled(wet, day) if _dry_place(wet, day) is None else None
-                for day in self.weather[wet.mood]]
+        parts = _parts(self.watered(standing, turn))
+        return [self._settled(parts, day) if _dry_place(parts, day) is None else None
+                for day in self.weather[standing.mood]]
 
     def run(self, standing, turns, days):
         """Yield the standing after each day, as long as there are a turn and a day."""
@@ -119,26 +113,57 @@ class Field:
         for number in range(self._size):
             yield self.standing_at(number)
 
+    def beside(self, standing, units):
+        """The standings of the field with so many units more in one plot (the plots in order) or in the tank."""
+        self._check_fits(standing)
+        parts = _parts(standing)
+        found = []
+        for place, limit in enumerate(self._limits):
+            changed = parts[place] + units
+            if 0 <= changed <= limit:
+                found.append(_standing_of([*parts[:place], changed, *parts[place + 1:]], standing.mood))
+        return found
+
+    def arrivals(self):
+        """For each standing and each allowed turn a list with one entry for each day of the mood: the number of the
+        standing after it, or None if it dries out a plot."""
+        turns = self.ground.turns()
+        rows = _all_parts(self._limits)
+        places = {row: place for place, row in enumerate(rows)}
+        wet = [[places[_served(self.ground.plots, turn, row)] for turn in turns] for row in rows]
+        found = []
+        for days in self.weather.moods:
+            # What comes after the water is the same for all turns that water alike, so it is found only once.
+            after = [[self._number_after(row, day, places) for day in days] for row in rows]
+            found.extend([[after[place] for place in chosen] for chosen in wet])
+        return found
+
+    def _number_after(self, parts, day, places):
+        if _dry_place(parts, day) is not None:
+            return None
+        return day.mood * len(places) + places[tuple(self._kept(_amounts(parts, day)))]
+
     def _check_fits(self, standing):
         if not self.fits(standing):
             raise BadStanding(standing)
 
     def _gone(self, standing, turn, day, place):
         """The standing after the day; the place is the one that DriedOut tells."""
-        wet = self.watered(standing, turn)
-        return self._settled(wet, self._checked_day(wet, day, place))
+        parts, chosen = self._checked_day(standing, turn, day, place)
+        return self._settled(parts, chosen)
 
-    def _checked_day(self, wet, day, place):
-        """The day at its place in the mood; DriedOut if it dries out a plot."""
-        days = self.weather[wet.mood]
+    def _checked_day(self, standing, turn, day, place):
+        """The parts after the water, and the day at its place in the mood; DriedOut if it dries out a plot."""
+        parts = _parts(self.watered(standing, turn))
+        days = self.weather[standing.mood]
         chosen = days[check_number("day", day, 0, len(days) - 1)]
-        dry = _dry_place(wet, chosen)
+        dry = _dry_place(parts, chosen)
         if dry is not None:
             raise DriedOut(self.ground.names[dry], place)
-        return chosen
+        return parts, chosen
 
-    def _settled(self, wet, day):
-        return _standing_of(self._kept(_amounts(wet, day)), day.mood)
+    def _settled(self, parts, day):
+        return _standing_of(self._kept(_amounts(parts, day)), day.mood)
 
     def _kept(self, amounts):
         return [lesser(units, limit) for units, limit in zip(amounts, self._limits)]
@@ -160,15 +185,34 @@ def _standing_of(parts, mood):
     return Standing(parts[:-1], parts[-1], mood)
 
 
-def _dry_place(wet, day):
+def _all_parts(limits):
+    """The parts of all standings of one mood, in ascending order."""
+    rows = [()]
+    for limit in limits:
+        rows = [(*row, units) for row in rows for units in range(limit + 1)]
+    return rows
+
+
+def _served(plots, turn, parts):
+    """The parts after the plots of the turn have taken their water, one after the other."""
+    left = parts[-1]
+    levels = []
+    for plot, level in zip(plots, parts):
+        units = lesser(lesser(plot.drink, plot.hold - level), left) if plot.name in turn else 0
+        levels.append(level + units)
+        left -= units
+    return (*levels, left)
+
+
+def _dry_place(parts, day):
     """The place of the first plot that the day dries out, or None."""
-    for place, (level, dry) in enumerate(zip(wet.levels, day.dry)):
+    for place, (level, dry) in enumerate(zip(parts, day.dry)):
         if level < dry:
             return place
     return None
 
 
-def _amounts(wet, day):
+def _amounts(parts, day):
     """What the plots and the tank would have after the day if nothing were spilled."""
-    levels = [level - dry + rain for level, dry, rain in zip(wet.levels, day.dry, day.rain)]
-    return [*levels, wet.tank + day.fill]
+    levels = [level - dry + rain for level, dry, rain in zip(parts, day.dry, day.rain)]
+    return [*levels, parts[-1] + day.fill]

@@ -35,6 +35,17 @@ def check_number(what, value, low, high):
     return value
 
 
+def check_day(day):
+    """The day number itself; BadNumber if it is no integer from 0 on."""
+    # A day number has no greatest value, so it is its own limit.
+    return check_number("day", day, 0, day)
+
+
+def is_place(value, count):
+    """Whether the value is an integer from 0 to count - 1."""
+    return isinstance(value, int) and not isinstance(value, bool) and 0 <= value < count
+
+
 def check_units(what, values):
     """The values as a tuple; BadNumber for the first that is no integer from 0 to 8."""
     return tuple([check_number(what, value, 0, MOST_UNITS) for value in values])
