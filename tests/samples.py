@@ -3,6 +3,7 @@
 import itertools
 import random
 
+from waterbyturns.books import AskingBook, Book, DaysBook, DriestBook, RankBook
 from waterbyturns.field import Field, Standing
 from waterbyturns.ground import Gates, Ground, Plot
 from waterbyturns.weather import Day, Weather
@@ -65,6 +66,37 @@ def ranks_by_words(field):
         lost.update({text: days for text in fresh})
 
 
+class OddBook(Book):
+    """A book that this program did not make: it gives one turn on the odd days."""
+
+    def __init__(self, period=2):
+        self.period = period
+
+    def __call__(self, field, standing, day=0):
+        return ("a",) if day % 2 else ()
+
+    def check(self, field):
+        field.ground.place_of("a")
+
+    def __str__(self):
+        return "odd"
+
+
+def some_book(pick, field):
+    """A book that fits the field, as the random source picks it."""
+    names, turns = field.ground.names, field.ground.turns()
+    order = pick.sample(names, pick.randint(1, len(names)))
+    kind = pick.randrange(5)
+    if kind == 0:
+        return DriestBook(*order)
+    if kind == 1:
+        return RankBook(*order)
+    if kind == 2:
+        return AskingBook(*[(name, pick.randint(0, 3)) for name in order])
+    days = DaysBook(*[pick.choice(turns) for _ in range(pick.randint(1, 4))])
+    return days if kind == 3 else days | AskingBook(*[(name, pick.randint(0, 2)) for name in order])
+
+
 # One plot that must be watered each second day; all standings but the driest are safe.
 EASY = field_of([("a", 3, 2)], [["a"]], 2, [([1], [0], 1, 0)])
 # Two plots, one turn for each, dry days and wet days; some standings are safe.
@@ -74,3 +106,15 @@ TIGHT = field_of([("a", 3, 2), ("b", 3, 2)], [["a"], ["b"]], 3,
 WET = field_of([("a", 2, 1), ("b", 1, 1)], [["a", "b"]], 1, [([0, 0], [0, 1], 0, 0)])
 # Nothing comes, so no standing is safe.
 DRY = field_of([("a", 2, 1), ("b", 2, 2)], [["a"], ["b"]], 2, [([1, 1], [0, 0], 0, 1)], [([0, 1], [0, 0], 0, 0)])
+
+# Fields with books for which a fuller plot is worse: it moves the turn away from the plot that needs it.
+HARMED = [
+    (field_of([("a", 4, 2), ("b", 2, 2)], [["a"], ["b"]], 2, [([1, 1], [0, 0], 2, 0)]),
+     AskingBook(("a", 0), ("b", 0))),
+    (field_of([("a", 3, 3), ("b", 2, 3)], [["a"], ["b"]], 2, [([1, 1], [0, 0], 2, 0)]),
+     AskingBook(("a", 1), ("b", 0))),
+    (field_of([("a", 2, 3), ("b", 4, 2)], [["a"], ["b"]], 2, [([1, 0], [0, 1], 2, 1)], [([1, 0], [0, 0], 0, 0)]),
+     DriestBook("a", "b")),
+    (field_of([("a", 4, 3), ("b", 3, 1)], [["a"], ["b"]], 2, [([0, 1], [0, 0], 1, 0)], [([1, 1], [1, 0], 0, 0)]),
+     DriestBook("a", "b")),
+]

@@ -4,7 +4,7 @@ import itertools
 import unittest
 
 from helper import OTHER_VALUES, error_of, raised
-from samples import EASY, TIGHT, field_of, some_fields, standing_of
+from samples import EASY, TIGHT, OddBook, field_of, some_fields, standing_of
 from waterbyturns.books import AskingBook, Book, DaysBook, DriestBook, ElseBook, RankBook
 from waterbyturns.errors import BadName, BadNumber, BadStanding, BadTurn, TooMany
 from waterbyturns.field import Standing
@@ -13,22 +13,6 @@ DAY = [([0, 0, 0], [0, 0, 0], 0, 0)]
 # b and a may be served together, and a and c; the order of the ground is c, a, b.
 THREE = field_of([("c", 3, 1), ("a", 3, 1), ("b", 2, 1)], [["a", "b"], ["a", "c"]], 2, DAY)
 BAD_NAMES = ["", "A", "a1", "toolongname", "a b"] + OTHER_VALUES
-
-
-class OddBook(Book):
-    """A book that this program did not make: it gives one turn on the odd days."""
-
-    def __init__(self, period=2):
-        self.period = period
-
-    def __call__(self, field, standing, day=0):
-        return ("a",) if day % 2 else ()
-
-    def check(self, field):
-        field.ground.place_of("a")
-
-    def __str__(self):
-        return "odd"
 
 
 def wanted_by_words(book, field, standing, order):

@@ -11,6 +11,9 @@ FUNCTIONS = {
     "rounds": {"ranks": "game", "good_options": "game, found, node", "spoilers": "game, found, node"},
     "papers": {"safe_paper": "safe", "check_safe": "field, rows", "lost_paper": "safe", "check_lost": "field, rows",
                "covers": "field, safe_rows, lost_rows"},
+    "compare": {"faults": "safe, judged", "right": "safe, judged", "never_worse": "first, second",
+                "better_at": "first, second", "difference": "first, second, standing", "alike": "first, second"},
+    "plans": {"check_plan": "field, sight, standings, rows", "check_loss": "field, sight, standings, rows"},
 }
 BOOK = {"__call__": "self, field, standing, day=0", "check": "self, field", "__str__": "self"}
 CLASSES = {
@@ -49,6 +52,17 @@ CLASSES = {
         "AskingBook": {"__init__": "self, *rows", **BOOK},
         "RankBook": {"__init__": "self, *order", **BOOK},
         "ElseBook": {"__init__": "self, first, second", **BOOK},
+    },
+    "judged": {
+        "Judged": {"__init__": "self, field, book", "keeps": "self, standing, *, day=0", "kept": "self, *, day=0",
+                   "rank": "self, standing, *, day=0", "drying": "self, standing, *, day=0",
+                   "harm": "self, *, day=0", "watering_harm": "self, *, day=0"},
+    },
+    "sight": {
+        "Sight": {"__init__": "self, *plots, tank=False, mood=False, every=1", "__le__": None,
+                  "seen": "self, field, standing"},
+        "Watch": {"__init__": "self, field, sight", "keeps": "self, standings", "rank": "self, standings",
+                  "plan": "self, standings", "loss": "self, standings"},
     },
 }
 PROPERTIES = [("ground", "Ground", "capacity", True), ("field", "Field", "size", False)]

@@ -2,9 +2,9 @@
 
 from math import lcm
 
-from waterbyturns.errors import BadName, BadStanding, TooMany
+from waterbyturns.errors import BadStanding, TooMany
 from waterbyturns.ground import check_group
-from waterbyturns.words import MOST_PLOTS, MOST_UNITS, check_day, check_name, check_number
+from waterbyturns.words import MOST_PLOTS, MOST_UNITS, check_day, check_different, check_new, check_number
 
 _MOST_TURNS = 12
 _LONGEST_PERIOD = 60
@@ -75,7 +75,7 @@ class AskingBook(Book):
         check_number("names", len(rows), 0, MOST_PLOTS)
         levels = {}
         for name, level in rows:
-            _check_new(name, levels)
+            check_new(name, levels)
             levels[name] = check_number("level", level, 0, MOST_UNITS - 1)
         self._asked = levels
         self.period = 1
@@ -165,17 +165,7 @@ def _turn_text(turn):
 
 def _checked_order(order):
     check_number("names", len(order), 0, MOST_PLOTS)
-    seen = {}
-    for name in order:
-        _check_new(name, seen)
-        seen[name] = True
-    return tuple(order)
-
-
-def _check_new(name, seen):
-    """Raise BadName for an invalid name, or one that was given before."""
-    if check_name(name) in seen:
-        raise BadName(name)
+    return check_different(order)
 
 
 def _check_known(field, names):

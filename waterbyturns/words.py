@@ -25,6 +25,21 @@ def check_name(text):
     return text
 
 
+def check_new(name, earlier):
+    """The name itself; BadName if it is no name or one of the earlier ones."""
+    if check_name(name) in earlier:
+        raise BadName(name)
+    return name
+
+
+def check_different(names):
+    """The names as a tuple; BadName for the first that is no name or was given before."""
+    checked = []
+    for name in names:
+        checked.append(check_new(name, checked))
+    return tuple(checked)
+
+
 def check_number(what, value, low, high):
     """The value itself; BadNumber if it is no integer from low to high."""
     # True and False are integers for Python, but never here.
