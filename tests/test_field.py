@@ -323,6 +323,27 @@ class DayTest(unittest.TestCase):
         self.assertEqual(standing, Standing([1, 0], 3, 0))
 
 
+class HelpersTest(unittest.TestCase):
+    def test_arrivals_are_the_numbers_of_the_moves(self):
+        for field in [small_field(), example(), field_of_size([1, 2, 1], 0, 3)]:
+            self.assertEqual(field.arrivals(), [
+                [[None if arrival is None else field.number(arrival) for arrival in field.moves(standing, turn)]
+                 for turn in field.ground.turns()] for standing in field.standings()])
+
+    def test_standings_beside(self):
+        field = small_field()
+        for standing, units in itertools.product(field.standings(), [-2, -1, 1, 2]):
+            found = []
+            for place, limit in enumerate([3, 2, 3]):
+                parts = [*standing.levels, standing.tank]
+                parts[place] += units
+                if 0 <= parts[place] <= limit:
+                    found.append(Standing(parts[:2], parts[2], standing.mood))
+            self.assertEqual(field.beside(standing, units), found)
+        self.assertEqual(error_of(field.beside, Standing([0], 0, 0), 1),
+                         raised(BadStanding, standing=Standing([0], 0, 0)))
+
+
 class RunTest(unittest.TestCase):
     def setUp(self):
         self.field = small_field()

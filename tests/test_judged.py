@@ -13,7 +13,9 @@ from waterbyturns.judged import Judged
 from waterbyturns.safe import Safe
 
 PICK = random.Random(11)
-CASES = HARMED + [(field, some_book(PICK, field)) for field in some_fields(160, 7)]
+# With these books the harm also depends on the day.
+CASES = HARMED + [(field, DaysBook([], [], [], ["a"]) | book) for field, book in HARMED]
+CASES += [(field, some_book(PICK, field)) for field in some_fields(160, 7)]
 
 
 def moves_by_words(field, book, standing, day):
@@ -79,13 +81,17 @@ class JudgedTest(unittest.TestCase):
         self.assertEqual(kinds, {(True, False), (False, True), (False, False)})
 
     def test_day_0_is_meant_if_no_day_is_passed(self):
-        for field, book in CASES[:40]:
+        moved = set()
+        for field, book in CASES:
             judged = Judged(field, book)
             self.assertEqual(judged.harm(), judged.harm(day=0))
             self.assertEqual(judged.watering_harm(), judged.watering_harm(day=0))
-            for row in field.standings():
+            moved |= {("harm", judged.harm() == judged.harm(day=1)),
+                      ("water", judged.watering_harm() == judged.watering_harm(day=1))}
+            for row in list(field.standings())[::5]:
                 self.assertEqual((judged.keeps(row), judged.rank(row), judged.drying(row)),
                                  (judged.keeps(row, day=0), judged.rank(row, day=0), judged.drying(row, day=0)))
+        self.assertGreaterEqual(moved, {("harm", False), ("water", False)})
 
     def test_drying_runs(self):
         lengths = set()

@@ -134,6 +134,8 @@ class SightTest(unittest.TestCase):
             expected = (set(one.plots) <= set(two.plots) and two.tank >= one.tank and two.mood >= one.mood
                         and one.every % two.every == 0)
             self.assertIs(one <= two, expected)
+        with self.assertRaises(TypeError):
+            Sight() <= ("a",)
 
 
 class WatchTest(unittest.TestCase):

@@ -5,7 +5,8 @@ import unittest
 
 from helper import OTHER_VALUES, error_of, raised
 from waterbyturns.errors import BadName, BadNumber
-from waterbyturns.words import check_name, check_number, is_name, read_number
+from waterbyturns.words import (check_day, check_different, check_name, check_new, check_number, is_name, is_place,
+                                read_number)
 
 NAMES = ["a", "z", "ab", "plot", "abcdefgh", "zzzzzzzz"]
 NO_NAMES = ["", "abcdefghi", "A", "aB", "a1", "1", "a b", " a", "a ", "a\n", "\n", "a-b", "_", "`", "{",
@@ -60,6 +61,30 @@ class CheckNumberTest(unittest.TestCase):
     def test_numbers_far_out_of_the_range(self):
         for value in [10 ** 5000, -10 ** 5000]:
             self.assertEqual(error_of(check_number, "x", value, 0, 8), raised(BadNumber, what="x", value=value))
+
+
+class HelpersTest(unittest.TestCase):
+    def test_names_that_differ(self):
+        self.assertEqual(check_different(["b", "a", "ab"]), ("b", "a", "ab"))
+        self.assertEqual(check_different([]), ())
+        self.assertEqual(error_of(check_different, ["b", "a", "b", "A"]), raised(BadName, name="b"))
+        self.assertEqual(error_of(check_different, ["b", "A", "b"]), raised(BadName, name="A"))
+        self.assertEqual(check_new("a", ["b"]), "a")
+        self.assertEqual(error_of(check_new, "a", {"a": 1}), raised(BadName, name="a"))
+        self.assertEqual(error_of(check_new, "A", []), raised(BadName, name="A"))
+
+    def test_days(self):
+        for day in [0, 1, 9, 10 ** 30]:
+            self.assertEqual(check_day(day), day)
+        for day in [-1, -10 ** 30] + OTHER_VALUES:
+            self.assertIs(error_of(check_day, day)[1]["value"], day)
+        self.assertEqual(error_of(check_day, -1), raised(BadNumber, what="day", value=-1))
+
+    def test_places(self):
+        self.assertEqual([is_place(value, 3) for value in range(-2, 6)], [False] * 2 + [True] * 3 + [False] * 3)
+        for value in OTHER_VALUES:
+            self.assertIs(is_place(value, 3), False)
+        self.assertIs(is_place(0, 0), False)
 
 
 class ReadNumberTest(unittest.TestCase):

@@ -92,10 +92,8 @@ class Judged:
 
 def _given_turns(field, book):
     """The turns of the book at all standings, place after place."""
-    turns = []
-    for place in range(book.period):
-        turns.extend([field.ground.turn_of(book(field, standing, place)) for standing in field.standings()])
-    return turns
+    rows = list(field.standings())
+    return [field.ground.turn_of(book(field, row, place)) for place in range(book.period) for row in rows]
 
 
 def _arrivals(field, turns):
