@@ -157,6 +157,37 @@ class NamesTest(unittest.TestCase):
                 self.assertFalse(hasattr(builtins, name), f"{where} {name}")
                 self.assertFalse(name.startswith("__"), f"{where} {name}")
 
+    def test_no_name_in_a_function_is_that_of_a_class_or_an_import_of_its_file(self):
+        for path in FILES:
+            tree, taken = tree_of(path), set()
+            for node in tree.body:
+                if isinstance(node, ast.ClassDef):
+                    taken.add(node.name)
+                if isinstance(node, ast.ImportFrom):
+                    taken |= {alias.name for alias in node.names}
+            for node in ast.walk(tree):
+                name = node.arg if isinstance(node, ast.arg) else node.id if isinstance(node, ast.Name) else ""
+                if isinstance(node, ast.arg) or isinstance(getattr(node, "ctx", None), ast.Store):
+                    self.assertNotIn(name, taken, f"{path.name}:{node.lineno}")
+
+    def test_no_name_is_a_method_and_an_attribute(self):
+        methods = {part.name for _, node in all_nodes(ast.ClassDef) for part in node.body
+                   if isinstance(part, ast.FunctionDef) and not part.decorator_list}
+        stored = {node.attr for _, node in all_nodes(ast.Attribute) if isinstance(node.ctx, ast.Store)}
+        self.assertFalse(methods & stored)
+
+    def test_no_other_function_has_the_name_of_a_generator(self):
+        names = [node.name for _, node in all_nodes(ast.FunctionDef)]
+        for where, node in all_nodes(ast.FunctionDef):
+            if any(isinstance(part, (ast.Yield, ast.YieldFrom)) for part in ast.walk(node)):
+                self.assertEqual(names.count(node.name), 1, where)
+
+    def test_methods_with_keywords_have_no_name_of_a_builtin_method(self):
+        for where, node in all_nodes(ast.FunctionDef):
+            if node.args.kwonlyargs and node.name != "__init__":
+                self.assertNotIn(node.name, METHODS, where)
+                self.assertTrue(node.args.args, where)
+
     def test_only_listed_builtins_are_used(self):
         for where, node in all_nodes(ast.Name):
             if hasattr(builtins, node.id):
