@@ -13,12 +13,12 @@ class UpSet:
     """The standings that are above one of a list."""
 
     def __init__(self, standings):
-        table = {_code(standing): standing for standing in standings}
+        table = {code_of(standing): standing for standing in standings}
         for standing in standings:
             if len(standing.levels) != len(standings[0].levels):
                 raise BadStanding(standing)
         self._width = len(standings[0].levels) if standings else 0
-        self._bits = _free_bits(self._width)
+        self._bits = free_bits(self._width)
         # The codes ascend as the standings do.
         codes = sorted([int(code) for code in table])
         self._codes = _least_codes(codes, self._bits)
@@ -27,7 +27,7 @@ class UpSet:
     def __contains__(self, x):
         if len(x.levels) != self._width:
             return False
-        return _is_above_some(_code(x), self._codes, self._bits)
+        return is_above_some(code_of(x), self._codes, self._bits)
 
     def __le__(self, other):
         if not isinstance(other, UpSet):
@@ -55,7 +55,7 @@ class UpSet:
         return len([standing for standing in field.standings() if standing in self])
 
 
-def _code(standing):
+def code_of(standing):
     """The standing as one number, so that two standings can be compared at once in all parts."""
     code = standing.mood
     for units in (*standing.levels, standing.tank):
@@ -64,7 +64,7 @@ def _code(standing):
     return code * _PART + MOST_MOODS - standing.mood
 
 
-def _free_bits(width):
+def free_bits(width):
     """The free bits of all parts of a code: both moods, the levels and the tank."""
     bits = 0
     for _ in range(width + 3):
@@ -72,7 +72,7 @@ def _free_bits(width):
     return bits
 
 
-def _is_above_some(code, codes, bits):
+def is_above_some(code, codes, bits):
     """Whether one of the codes is not greater in any part."""
     topped = code | bits
     for low in codes:
@@ -86,7 +86,7 @@ def _least_codes(codes, bits):
     """The codes, given in ascending order, that are above no other one."""
     kept = []
     for code in codes:
-        if not _is_above_some(code, kept, bits):
+        if not is_above_some(code, kept, bits):
             kept.append(code)
     return tuple(kept)
 
