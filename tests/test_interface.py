@@ -14,6 +14,13 @@ FUNCTIONS = {
     "compare": {"faults": "safe, judged", "right": "safe, judged", "never_worse": "first, second",
                 "better_at": "first, second", "difference": "first, second, standing", "alike": "first, second"},
     "plans": {"check_plan": "field, sight, standings, rows", "check_loss": "field, sight, standings, rows"},
+    "least": {"least_tank": "ground, weather, start", "least_rain": "ground, weather, start",
+              "cheapest_gates": "ground, weather, start, menu", "misses": "safe, standing, *plots"},
+    "spilled": {"spilled": "judged, standing, days", "spill_paper": "judged, standing",
+                "check_spill": "judged, standing, paper"},
+    "looks": {"told_back": "ground, weathers, books, rows"},
+    "texts": {"write_field": "field", "read_field": "text", "read_standing": "text", "read_book": "text"},
+    "console": {"console": "field, lines"},
 }
 BOOK = {"__call__": "self, field, standing, day=0", "check": "self, field", "__str__": "self"}
 CLASSES = {
@@ -64,8 +71,23 @@ CLASSES = {
         "Watch": {"__init__": "self, field, sight", "keeps": "self, standings", "rank": "self, standings",
                   "plan": "self, standings", "loss": "self, standings"},
     },
+    "blind": {
+        "Blind": {"__init__": "self, field", "after": "self, standings, turn", "keeps": "self, standings",
+                  "rounds": "self, standings", "holds": "self, standings, ahead, ring",
+                  "shortest_ring": "self, standings, *, most=4"},
+    },
+    "looks": {
+        "Looks": {"__init__": "self, field, book, standings", "possible": "self", "look": "self, levels, *, tank=None",
+                  "pass_day": "self", "span": "self, name"},
+    },
+    "channel": {
+        "Channel": {"__init__": "self, field, standing", "begin": "self, standing", "play": "self, turn, day",
+                    "undo": "self, count=1", "history": "self", "play_all": "self, *deeds",
+                    "follow": "self, book, *days", "advice": "self, safe", "missed": "self, name"},
+    },
 }
-PROPERTIES = [("ground", "Ground", "capacity", True), ("field", "Field", "size", False)]
+PROPERTIES = [("ground", "Ground", "capacity", True), ("field", "Field", "size", False),
+              ("channel", "Channel", "present", True)]
 STATIC = [("weather", "Weather", "steady", "dry, rain, fill"), ("weather", "Weather", "seasons", "*rows")]
 
 

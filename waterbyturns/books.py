@@ -43,7 +43,7 @@ class DaysBook(Book):
             field.ground.turn_of(turn)
 
     def __str__(self):
-        return " ".join(["days", *[_turn_text(turn) for turn in self._turns]])
+        return " ".join(["days", *[turn_text(turn) for turn in self._turns]])
 
 
 class DriestBook(Book):
@@ -148,6 +148,11 @@ class ElseBook(Book):
         return self._written
 
 
+def turn_text(turn):
+    """The names joined by a plus; a minus for the empty turn."""
+    return "+".join(turn) if turn else "-"
+
+
 def _written_books(book):
     return book.written() if isinstance(book, ElseBook) else (book,)
 
@@ -157,10 +162,6 @@ def _check_call(book, field, standing, day):
         raise BadStanding(standing)
     check_day(day)
     book.check(field)
-
-
-def _turn_text(turn):
-    return "+".join(turn) if turn else "-"
 
 
 def _checked_order(order):

@@ -78,12 +78,13 @@ def greater(one, two):
 
 def read_number(text):
     """The number that the text writes with one to four digits, without a leading zero."""
-    if not _is_number(text):
+    if not is_number(text):
         raise BadNumber("number", text)
     return int(text)
 
 
-def _is_number(text):
+def is_number(text):
+    """Whether the text is one to four digits without a leading zero, except in "0" itself."""
     if not isinstance(text, str) or not 1 <= len(text) <= _LONGEST_NUMBER:
         return False
     if not all([letter in _DIGITS for letter in text]):
